@@ -1,0 +1,79 @@
+"""Pivots: rows by which lots are made and searched, head by head.
+
+Pivots are a dict from places to packed rows. The row at a place has its head there, and at
+its head a power of the prime, its entry. Each row of the lot that is 0 up to some place is a
+sum of multiples of the pivots behind this place. So a row of the lot loses its number at
+one place after the other when the right multiple of the pivot there is taken off it.
+"""
+
+from math import gcd
+
+from restcounts.packing import number_at, pack, unpack
+
+
+def pivots_of(rows, width, m):
+    """Pivots of the lot that is made by these rows."""
+    pivots = {}
+    # From behind, as rows in the order of their heads then become pivots at once.
+    for row in reversed(rows):
+        put_row(pivots, pack(row, m), width, m)
+    return pivots
+
+
+def put_row(pivots, packed, width, m):
+    """Change the pivots into those of the lot that has this packed row, too."""
+    for place in range(width):
+        here = number_at(packed, place, m)
+        if here == 0:
+            continue
+        # A place without a pivot is like one with a row of zeros and the entry m: then the
+        # multiple of the new pivot that is 0 at its head goes on to the places behind.
+        pivot = pivots.get(place, 0)
+        entry = number_at(pivot, place, m) or m
+        if here % entry != 0:
+            pivots[place] = headed(packed, place, width, m)
+            packed, here = pivot, entry
+            pivot = pivots[place]
+            entry = number_at(pivot, place, m)
+        packed = packed + (m - here // entry) * pivot
+
+
+def headed(packed, place, width, m):
+    """The packed row times a unit with which the number at its head is a power of the prime."""
+    here = number_at(packed, place, m)
+    entry = gcd(here, m)
+    units = [unit for unit in range(1, m) if unit * here % m == entry]
+    return pack([units[0] * number for number in unpack(packed, width, m)], m)
+
+
+def left_over(pivots, packed, m):
+    """What is left of a packed row: at each pivot's head a lower rest than the entry there."""
+    for place in sorted(pivots):
+        pivot = pivots[place]
+        times = number_at(packed, place, m) // number_at(pivot, place, m)
+        if times != 0:
+            packed = packed + (m - times) * pivot
+    return packed
+
+
+def in_form(pivots, width, m):
+    """The pivots of the same lot whose rows are its form."""
+    formed = {}
+    for place in sorted(pivots, reverse=True):
+        row = unpack(left_over(formed, pivots[place], m), width, m)
+        formed[place] = pack(row, m)
+    return formed
+
+
+def rows_behind(pivots, places, width, m):
+    """The pivots that are 0 at the first so many places, as rows without these places."""
+    rows = [unpack(pivots[place], width, m) for place in sorted(pivots) if place >= places]
+    return tuple([row[places:] for row in rows])
+
+
+def size_of(pivots, m):
+    """How many rows the lot has."""
+    size = 1
+    for place in pivots:
+        size = size * (m // number_at(pivots[place], place, m))
+    return size
