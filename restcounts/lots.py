@@ -4,7 +4,8 @@ from restcounts.errors import BadNumber, BadRow, TooMany, Unlike
 from restcounts.kinds import is_integer, is_row
 from restcounts.moduli import digits, prime_power
 from restcounts.packing import pack, unpack
-from restcounts.pivots import in_form, left_over, pivots_of, rows_behind, size_of
+from restcounts.pivots import (
+    in_form, left_over, marked, pivots_of, rows_behind, size_of, solved)
 
 WIDEST = 400
 MOST_ROWS = 400
@@ -91,20 +92,10 @@ def multiples(m, width, rows, row):
     check_many(rows)
     if not is_row(row, width):
         raise BadRow(row)
-    pivots = pivots_of(marked(rows), width + len(rows), m)
-    rest = unpack(left_over(pivots, pack(row, m), m), width + len(rows), m)
-    if any(rest[:width]):
-        return None
-    return tuple([-number % m for number in rest[width:]])
+    return solved(rows, row, width, m)
 
 
 def check_many(rows):
     """Raise TooMany if there are more rows than kernel and multiples take."""
     if len(rows) > MOST_ROWS:
         raise TooMany("rows", MOST_ROWS)
-
-
-def marked(rows):
-    """The rows, each with a 1 behind it at its own number and zeros beside it."""
-    many = len(rows)
-    return [tuple(row) + (0,) * at + (1,) + (0,) * (many - 1 - at) for at, row in enumerate(rows)]

@@ -8,7 +8,7 @@ one place after the other when the right multiple of the pivot there is taken of
 
 from math import gcd
 
-from restcounts.packing import number_at, pack, unpack
+from restcounts.packing import BITS, FIELD, number_at, pack, unpack
 
 
 def pivots_of(rows, width, m):
@@ -21,9 +21,14 @@ def pivots_of(rows, width, m):
 
 
 def put_row(pivots, packed, width, m):
-    """Change the pivots into those of the lot that has this packed row, too."""
+    """Change the pivots into those of the lot that has this packed row, too.
+
+    Tell whether the lot has grown by this.
+    """
+    grown = False
     for place in range(width):
-        here = number_at(packed, place, m)
+        # As number_at, but most of the time is spent here.
+        here = ((packed >> (BITS * place)) & FIELD) % m
         if here == 0:
             continue
         # A place without a pivot is like one with a row of zeros and the entry m: then the
@@ -31,11 +36,15 @@ def put_row(pivots, packed, width, m):
         pivot = pivots.get(place, 0)
         entry = number_at(pivot, place, m) or m
         if here % entry != 0:
+            grown = True
             pivots[place] = headed(packed, place, width, m)
             packed, here = pivot, entry
             pivot = pivots[place]
             entry = number_at(pivot, place, m)
         packed = packed + (m - here // entry) * pivot
+        if packed == 0:
+            break
+    return grown
 
 
 def headed(packed, place, width, m):
@@ -77,3 +86,19 @@ def size_of(pivots, m):
     for place in pivots:
         size = size * (m // number_at(pivots[place], place, m))
     return size
+
+
+def marked(rows):
+    """The rows, each with a 1 behind it at its own number and zeros beside it."""
+    many = len(rows)
+    return [tuple(row) + (0,) * at + (1,) + (0,) * (many - 1 - at) for at, row in enumerate(rows)]
+
+
+def solved(rows, row, width, m):
+    """Rests by which the sum of multiples of rows is row modulo m; None if there are none."""
+    wide = width + len(rows)
+    pivots = pivots_of(marked(rows), wide, m)
+    rest = unpack(left_over(pivots, pack(row, m), m), wide, m)
+    if any(rest[:width]):
+        return None
+    return tuple([-number % m for number in rest[width:]])

@@ -1,0 +1,69 @@
+"""Reading a text from its beginning on, up to the first character that can't stand there."""
+
+from restcounts.errors import BadText
+
+FIGURES = "0123456789"
+
+
+class Scanner:
+    """A text and the place up to which it is read; what is read can go on to a right text."""
+
+    def __init__(self, text):
+        self.text = text
+        self.place = 0
+
+    def here(self):
+        """The next character, an empty string at the end of the text."""
+        return self.text[self.place:self.place + 1]
+
+    def step_on(self):
+        """Read the next character."""
+        self.place = self.place + 1
+
+    def skip(self):
+        """Read all spaces that follow."""
+        while self.here() == " ":
+            self.step_on()
+
+    def fail(self):
+        """Raise BadText at the next character."""
+        raise BadText(self.place + 1)
+
+    def at_figure(self):
+        """Whether a figure follows."""
+        return self.here() != "" and self.here() in FIGURES
+
+    def take(self, sign):
+        """Read this sign, and spaces ahead of it."""
+        self.skip()
+        if self.here() != sign:
+            self.fail()
+        self.step_on()
+
+    def took(self, sign):
+        """Read spaces, and this sign if it follows; whether it does."""
+        self.skip()
+        found = self.here() == sign
+        if found:
+            self.step_on()
+        return found
+
+    def figures(self, most):
+        """Read the figures of a number and tell them; at most so many, any number if None."""
+        self.skip()
+        begin = self.place
+        if not self.at_figure():
+            self.fail()
+        while self.at_figure():
+            if self.text[begin] == "0" and self.place > begin:
+                self.fail()
+            if most is not None and self.place - begin >= most:
+                self.fail()
+            self.step_on()
+        return self.text[begin:self.place]
+
+    def end(self):
+        """Raise BadText unless nothing but spaces follows."""
+        self.skip()
+        if self.here() != "":
+            self.fail()

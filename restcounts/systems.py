@@ -1,0 +1,165 @@
+"""Systems: rows to begin with, a square table for each digit, and ends.
+
+A row of a system is led on by a digit: it is multiplied by the table of this digit. A row
+tells, for each word of digits, the number that it has when it is led by these digits and then
+multiplied by the ends. Tables are systems with one row to begin with; joint rows and relations
+are about systems with several of them.
+"""
+
+from restcounts.moduli import prime_power
+from restcounts.packing import number_at, pack, unpack
+from restcounts.pivots import in_form, left_over, marked, pivots_of, put_row
+
+
+class System:
+    """Starts, a tuple of rows; moves, a table for each digit; ends. All numbers are rests."""
+
+    def __init__(self, m, starts, moves, ends):
+        self.m = m
+        self.width = len(ends)
+        self.starts = starts
+        self.moves = moves
+        self.ends = ends
+
+
+class Basis:
+    """As few rows as can make a lot, and how the rows of the lot are made of them."""
+
+    def __init__(self, pivots, width, m):
+        self.m = m
+        self.width = width
+        formed = in_form(pivots, width, m)
+        self._places = sorted(formed)
+        self._is_free = all([number_at(formed[at], at, m) == 1 for at in self._places])
+        self._marks = {}
+        if self._is_free:
+            self.rows = [unpack(formed[at], width, m) for at in self._places]
+        else:
+            self.rows = least_makers(formed, width, m)
+            self._marks = pivots_of(marked(self.rows), width + len(self.rows), m)
+
+    def numbers(self, packed):
+        """The numbers by which the rows add up to a packed row of the lot."""
+        if self._is_free:
+            # Each row of the form has a 1 at its head, where all the others have a 0.
+            return tuple([number_at(packed, at, self.m) for at in self._places])
+        rest = left_over(self._marks, packed, self.m)
+        behind = range(self.width, self.width + len(self.rows))
+        return tuple([-number_at(rest, at, self.m) % self.m for at in behind])
+
+
+def least_makers(pivots, width, m):
+    """As few rows as can make the lot of these pivots."""
+    # Rows make the lot exactly if they do so together with all p-fold rows of the lot.
+    p, _ = prime_power(m)
+    rows = [pivots[at] for at in sorted(pivots)]
+    made = {}
+    for packed in rows:
+        put_row(made, p * packed, width, m)
+    makers = []
+    for packed in rows:
+        if put_row(made, packed, width, m):
+            makers.append(unpack(packed, width, m))
+    return makers
+
+
+def packed_tables(moves, m):
+    """The tables with their rows packed."""
+    return [[pack(row, m) for row in table] for table in moves]
+
+
+def turned_tables(moves):
+    """The tables with rows and columns exchanged."""
+    return tuple([tuple([tuple(column) for column in zip(*table)]) for table in moves])
+
+
+def led(row, table):
+    """The packed row, its numbers not yet rests, that the row times a packed table is."""
+    total = 0
+    for number, packed in zip(row, table):
+        if number != 0:
+            total = total + number * packed
+    return total
+
+
+def dot(one, other):
+    """The sum of the products, place by place."""
+    return sum([a * b for a, b in zip(one, other)])
+
+
+def closed(rows, tables, width, m):
+    """Pivots of the least lot with these rows and all to which the tables lead its rows."""
+    pivots = {}
+    waiting = [pack(row, m) for row in rows]
+    while waiting:
+        packed = waiting.pop()
+        if put_row(pivots, packed, width, m):
+            row = unpack(packed, width, m)
+            for table in tables:
+                waiting.append(led(row, table))
+    return pivots
+
+
+def spanned(rows, moves, width, m):
+    """The basis of the lot that closed tells, and the rows and the tables in its numbers."""
+    tables = packed_tables(moves, m)
+    basis = Basis(closed(rows, tables, width, m), width, m)
+    starts = tuple([basis.numbers(pack(row, m)) for row in rows])
+    found = tuple([tuple([basis.numbers(led(row, table)) for row in basis.rows])
+                   for table in tables])
+    return basis, starts, found
+
+
+def narrowed(system):
+    """The same with a row only for what the rows to begin with lead to."""
+    m = system.m
+    basis, starts, moves = spanned(system.starts, system.moves, system.width, m)
+    return System(m, starts, moves, tuple([dot(row, system.ends) % m for row in basis.rows]))
+
+
+def shortened(system):
+    """The same, where two rows that digits lead to are the same if they tell the same."""
+    # The columns to which words of digits lead the ends are sums of multiples of a few. A row
+    # tells what these few tell of it, so this is the row that takes its place.
+    m = system.m
+    basis, ends, moves = spanned((system.ends,), turned_tables(system.moves), system.width, m)
+    table = [pack(numbers, m) for numbers in zip(*basis.rows)]
+    starts = tuple([unpack(led(row, table), len(basis.rows), m) for row in system.starts])
+    return System(m, starts, turned_tables(moves), ends[0])
+
+
+def least_system(system):
+    """The same with as few rows as can be."""
+    return narrowed(shortened(system))
+
+
+def row_at(row, tables, word, width, m):
+    """The row to which this row is led by a word of digits."""
+    for digit in word:
+        row = unpack(led(row, tables[digit]), width, m)
+    return row
+
+
+def column_at(system, turned, word):
+    """The ends as a word of digits leads to them; turned are the packed turned tables."""
+    column = system.ends
+    for digit in reversed(word):
+        column = unpack(led(column, turned[digit]), system.width, system.m)
+    return column
+
+
+def first_rests_of(system, points):
+    """For each start the rests at all points, integers from 0 on, of a steady system."""
+    p, _ = prime_power(system.m)
+    turned = packed_tables(turned_tables(system.moves), system.m)
+    columns = {0: system.ends}
+    for point in points:
+        # A number behind its lowest digits is a shorter one, mostly one that was met before.
+        unknown = [point]
+        while unknown[-1] not in columns:
+            unknown.append(unknown[-1] // p)
+        for number in reversed(unknown[:-1]):
+            column = led(columns[number // p], turned[number % p])
+            columns[number] = unpack(column, system.width, system.m)
+    return [[dot(start, columns[point]) % system.m for point in points]
+            for start in system.starts]
