@@ -9,7 +9,7 @@ from restcounts.pivots import left_over, pivots_of
 from restcounts.searching import least_number
 from restcounts.systems import (
     closed, dot, least_makers, least_system, led, packed_tables)
-from restcounts.tables import as_tables, check_moduli, system_of, tables_of
+from restcounts.tables import check_moduli, system_of, tables_of
 
 
 class Alike:

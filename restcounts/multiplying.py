@@ -7,6 +7,9 @@ from restcounts.slots import Slots
 
 # So many pairs of terms are multiplied one by one in a short time.
 FEW_PAIRS = 20000
+# With more terms than this, products of squares take less time than one number at a time.
+FEW_TERMS = 500
+ONE = (((0, 0, 0), 1),)
 LETTERS = (0, 1, 2)
 
 
@@ -94,11 +97,26 @@ def raised_terms(terms, n):
     """The terms of the sum to the power n, for n from 1 on; terms are in ascending order."""
     if not terms:
         return []
+    if len(terms) > FEW_TERMS:
+        return squared_terms(terms, n)
     lowest, number = terms[0]
     line = Line(terms, lowest, n)
     steps = [(line.key_of(power), factor) for power, factor in terms[1:]]
     found = raised_keys(number, steps, n)
     return [(line.power_at(key), found[key]) for key in found]
+
+
+def squared_terms(terms, n):
+    """The terms of the sum to the power n, by products of squares of squares."""
+    found = ONE
+    square = terms
+    while True:
+        if n & 1 == 1:
+            found = product_terms(found, square)
+        n = n >> 1
+        if n == 0:
+            return found
+        square = product_terms(square, square)
 
 
 def raised_keys(number, steps, n):
