@@ -145,3 +145,22 @@ def random_parts(chance, m, size, factor=1):
     def row():
         return tuple(factor * chance.choice((0, 1, chance.randrange(m))) % m for _ in range(size))
     return row(), tuple(tuple(row() for _ in range(size)) for _ in range(p)), row()
+
+
+def steady_parts(chance, m, size, factor=1):
+    """The parts of tables for which a digit 0 leads every row to one with the same value."""
+    first, moves, ends = random_parts(chance, m, size, chance.choice((1, factor)))
+    if not any(ends):
+        return first, moves, ends
+    at = min(range(size), key=lambda i: prime_part(ends[i], m))
+    table = []
+    for i, row in enumerate(moves[0]):
+        rest = ends[i] - sum(a * b for j, (a, b) in enumerate(zip(row, ends)) if j != at)
+        fitting = next(a for a in range(m) if (a * ends[at] - rest) % m == 0)
+        table.append(row[:at] + (fitting,) + row[at + 1:])
+    return first, (tuple(table),) + moves[1:], ends
+
+
+def prime_part(number, m):
+    """The greatest divisor of m that divides number."""
+    return max(t for t in range(1, m + 1) if m % t == 0 and number % t == 0)
