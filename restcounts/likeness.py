@@ -50,7 +50,7 @@ def same_tables(one, other):
     rows = least_makers(pivots, width, m)
     if any([dot(row, system.ends) % m != 0 for row in rows]):
         return None
-    return tuple(rows)
+    return rows
 
 
 def joint_system(one, other):

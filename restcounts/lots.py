@@ -5,7 +5,7 @@ from restcounts.kinds import is_integer, is_row
 from restcounts.moduli import digits, prime_power
 from restcounts.packing import pack, unpack
 from restcounts.pivots import (
-    in_form, left_over, marked, pivots_of, rows_behind, size_of, solved)
+    in_form, left_over, marked, pivots_of, rows_behind, rows_of, size_of, solved)
 
 WIDEST = 400
 MOST_ROWS = 400
@@ -19,7 +19,7 @@ class Lot:
         pivots = in_form(pivots_of(rows, width, m), width, m)
         self.m = m
         self.width = width
-        self.rows = rows_behind(pivots, 0, width, m)
+        self.rows = rows_of(pivots, width, m)
         self.size = size_of(pivots, m)
         self.least = least_makers(self.rows, self.size, width, m)
         self._pivots = pivots

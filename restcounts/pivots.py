@@ -1,9 +1,10 @@
 """Pivots: rows by which lots are made and searched, head by head.
 
-Pivots are a dict from places to packed rows. The row at a place has its head there, and at
-its head a power of the prime, its entry. Each row of the lot that is 0 up to some place is a
-sum of multiples of the pivots behind this place. So a row of the lot loses its number at
-one place after the other when the right multiple of the pivot there is taken off it.
+Pivots are a dict from places to packed rows of rests. The row at a place has its head there,
+and at its head a power of the prime, its entry; it is kept from its head on, so the entry
+fills its lowest bits. Each row of the lot that is 0 up to some place is a sum of multiples of
+the pivots behind this place. So a row of the lot loses its number at one place after the other
+when the right multiple of the pivot there is taken off it.
 """
 
 from math import gcd
@@ -27,29 +28,28 @@ def put_row(pivots, packed, width, m):
     """
     grown = False
     for place in range(width):
-        # As number_at, but most of the time is spent here.
-        here = ((packed >> (BITS * place)) & FIELD) % m
-        if here == 0:
-            continue
-        # A place without a pivot is like one with a row of zeros and the entry m: then the
-        # multiple of the new pivot that is 0 at its head goes on to the places behind.
-        pivot = pivots.get(place, 0)
-        entry = number_at(pivot, place, m) or m
-        if here % entry != 0:
-            grown = True
-            pivots[place] = headed(packed, place, width, m)
-            packed, here = pivot, entry
-            pivot = pivots[place]
-            entry = number_at(pivot, place, m)
-        packed = packed + (m - here // entry) * pivot
         if packed == 0:
             break
+        here = (packed & FIELD) % m
+        if here != 0:
+            # A place without a pivot is like one with a row of zeros and the entry m: then the
+            # multiple of the new pivot that is 0 at its head goes on to the places behind.
+            pivot = pivots.get(place, 0)
+            entry = (pivot & FIELD) or m
+            if here % entry != 0:
+                grown = True
+                pivots[place] = headed(packed, width - place, m)
+                packed, here = pivot, entry
+                pivot = pivots[place]
+                entry = pivot & FIELD
+            packed = packed + (m - here // entry) * pivot
+        packed = packed >> BITS
     return grown
 
 
-def headed(packed, place, width, m):
-    """The packed row times a unit with which the number at its head is a power of the prime."""
-    here = number_at(packed, place, m)
+def headed(packed, width, m):
+    """The packed row times a unit with which its first number is a power of the prime."""
+    here = number_at(packed, 0, m)
     entry = gcd(here, m)
     units = [unit for unit in range(1, m) if unit * here % m == entry]
     return pack([units[0] * number for number in unpack(packed, width, m)], m)
@@ -59,9 +59,9 @@ def left_over(pivots, packed, m):
     """What is left of a packed row: at each pivot's head a lower rest than the entry there."""
     for place in sorted(pivots):
         pivot = pivots[place]
-        times = number_at(packed, place, m) // number_at(pivot, place, m)
+        times = number_at(packed, place, m) // (pivot & FIELD)
         if times != 0:
-            packed = packed + (m - times) * pivot
+            packed = packed + (((m - times) * pivot) << (BITS * place))
     return packed
 
 
@@ -69,22 +69,27 @@ def in_form(pivots, width, m):
     """The pivots of the same lot whose rows are its form."""
     formed = {}
     for place in sorted(pivots, reverse=True):
-        row = unpack(left_over(formed, pivots[place], m), width, m)
-        formed[place] = pack(row, m)
+        packed = left_over(formed, pivots[place] << (BITS * place), m)
+        formed[place] = pack(unpack(packed, width, m)[place:], m)
     return formed
+
+
+def rows_of(pivots, width, m):
+    """The rows of the pivots in the order of their heads."""
+    return rows_behind(pivots, 0, width, m)
 
 
 def rows_behind(pivots, places, width, m):
     """The pivots that are 0 at the first so many places, as rows without these places."""
-    rows = [unpack(pivots[place], width, m) for place in sorted(pivots) if place >= places]
-    return tuple([row[places:] for row in rows])
+    return tuple([(0,) * (place - places) + unpack(pivots[place], width - place, m)
+                  for place in sorted(pivots) if place >= places])
 
 
 def size_of(pivots, m):
     """How many rows the lot has."""
     size = 1
     for place in pivots:
-        size = size * (m // number_at(pivots[place], place, m))
+        size = size * (m // (pivots[place] & FIELD))
     return size
 
 

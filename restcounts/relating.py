@@ -1,16 +1,15 @@
 """Relations and rules of counts, for all n."""
 
 from restcounts.arithmetic import power_of
-from restcounts.combining import led_start, side_by_side, sum_system
+from restcounts.combining import side_by_side
 from restcounts.errors import BadNumber, TooMany
 from restcounts.kinds import is_integer
 from restcounts.lots import Lot, kernel, multiples
 from restcounts.moduli import prime_power
 from restcounts.packing import unpack
 from restcounts.searching import least_number
-from restcounts.systems import (
-    System, dot, first_rests_of, led, least_system, packed_tables, shortened)
-from restcounts.telling import system_of_tree
+from restcounts.systems import System, dot, first_rests_of, led, packed_tables, shortened
+from restcounts.telling import short_system_of_tree, system_of_tree
 
 MOST_COUNTS = 8
 MOST_J = 6
@@ -87,18 +86,17 @@ def mixed_row(numbers, rows, m):
     return tuple([dot(numbers, column) % m for column in zip(*rows)])
 
 
-def residual_rows(count, m):
-    """Rows that tell the count, and its residuals behind one digit, each unlike the others."""
-    system = shortened(system_of_tree(count.tree, m))
+def residual_rows(system):
+    """The start of a system, and the rows to which the digits lead it."""
     row = system.starts[0]
-    tables = packed_tables(system.moves, m)
-    return row, [unpack(led(row, table), system.width, m) for table in tables]
+    tables = packed_tables(system.moves, system.m)
+    return row, [unpack(led(row, table), system.width, system.m) for table in tables]
 
 
 def rule(count, m):
     """For each digit the least c so that the count goes by it, or None."""
     prime_power(m)
-    row, residuals = residual_rows(count, m)
+    row, residuals = residual_rows(short_system_of_tree(count.tree, m))
     found = []
     for residual in residuals:
         fitting = [c for c in range(m) if mixed_row((c,), (row,), m) == residual]
@@ -109,21 +107,23 @@ def rule(count, m):
 def lucas(count, m):
     """None if the count is multiplied by its digits, otherwise the first place where not."""
     p, _ = prime_power(m)
-    system = system_of_tree(count.tree, m)
+    system = short_system_of_tree(count.tree, m)
+    row, residuals = residual_rows(system)
     firsts = first_rests_of(system, tuple(range(p)))[0]
-    breaks = []
-    for digit in range(p):
-        apart = sum_system((1, -firsts[digit]), (led_start(system, digit), system))
-        n = least_number(least_system(apart), 0)
-        if n is not None:
-            breaks.append(p * n + digit)
-    return min(breaks, default=None)
+    starts = tuple([mixed_row((1, -first), (residual, row), m)
+                    for first, residual in zip(firsts, residuals)])
+    apart = System(m, starts, system.moves, system.ends)
+    n = least_number(apart, 0)
+    if n is None:
+        return None
+    unlike = [digit for digit, rests in enumerate(first_rests_of(apart, (n,))) if rests[0] != 0]
+    return p * n + unlike[0]
 
 
 def lasting(count, m):
     """The greatest t so that the values at p * n and at n are equal modulo p^t."""
     p, k = prime_power(m)
-    row, residuals = residual_rows(count, m)
+    row, residuals = residual_rows(short_system_of_tree(count.tree, m))
     changes = [a - b for a, b in zip(row, residuals[0])]
     lasts = [t for t in range(k + 1)
              if not any([change % power_of(p, t) != 0 for change in changes])]
@@ -135,7 +135,7 @@ def zero_classes(count, m, j):
     p, _ = prime_power(m)
     if not is_integer(j) or j < 0 or j > MOST_J:
         raise BadNumber("j", j)
-    system = shortened(system_of_tree(count.tree, m))
+    system = short_system_of_tree(count.tree, m)
     tables = packed_tables(system.moves, m)
     rows = [system.starts[0]]
     for _ in range(j):

@@ -5,8 +5,7 @@ from restcounts.errors import BadNumber, Unlike
 from restcounts.kinds import is_integer
 from restcounts.lots import Lot, kernel
 from restcounts.moduli import digits, prime_power
-from restcounts.packing import unpack
-from restcounts.pivots import pivots_of, rows_behind, size_of
+from restcounts.pivots import pivots_of, rows_of, size_of
 from restcounts.systems import closed, least_system, packed_tables, row_at, shortened, turned_tables
 from restcounts.tables import Tables, as_tables, is_steady, system_of
 from restcounts.telling import system_of_tree
@@ -31,7 +30,7 @@ def rows_met(row, moves, m):
     """Rows that make the lot of all rows to which words of digits lead this row."""
     width = len(row)
     pivots = closed((row,), packed_tables(moves, m), width, m)
-    return rows_behind(pivots, 0, width, m)
+    return rows_of(pivots, width, m)
 
 
 def behind(tables, places, number):
@@ -67,7 +66,7 @@ def orders(tables):
     system = shortened(system_of(tables))
     m, width = system.m, system.width
     pivots = closed(system.starts, packed_tables(system.moves, m), width, m)
-    rows = [unpack(pivots[at], width, m) for at in sorted(pivots)]
+    rows = rows_of(pivots, width, m)
     # steps[t] tells how many orders are above p^t.
     steps = []
     size = size_of(pivots, m)

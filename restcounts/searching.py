@@ -2,7 +2,7 @@
 
 from restcounts.moduli import digits, number_of, prime_power
 from restcounts.packing import pack, unpack
-from restcounts.pivots import in_form, put_row, rows_behind
+from restcounts.pivots import in_form, put_row, rows_of
 from restcounts.systems import dot, led, packed_tables, turned_tables
 
 
@@ -23,7 +23,7 @@ class Levels:
         pivots = {}
         for packed in packed_rows:
             put_row(pivots, packed, self.width, self.m)
-        return rows_behind(in_form(pivots, self.width, self.m), 0, self.width, self.m)
+        return rows_of(in_form(pivots, self.width, self.m), self.width, self.m)
 
     def rows_at(self, level):
         """Rows that make the lot for so many digits."""

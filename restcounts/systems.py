@@ -6,9 +6,11 @@ multiplied by the ends. Tables are systems with one row to begin with; joint row
 are about systems with several of them.
 """
 
+from restcounts.arithmetic import power_of
 from restcounts.moduli import prime_power
-from restcounts.packing import number_at, pack, unpack
-from restcounts.pivots import in_form, left_over, marked, pivots_of, put_row
+from restcounts.packing import pack, unpack
+from restcounts.pivots import (
+    in_form, left_over, marked, pivots_of, put_row, rows_of, size_of)
 
 
 class System:
@@ -30,10 +32,10 @@ class Basis:
         self.width = width
         formed = in_form(pivots, width, m)
         self._places = sorted(formed)
-        self._is_free = all([number_at(formed[at], at, m) == 1 for at in self._places])
+        self._is_free = size_of(formed, m) == power_of(m, len(formed))
         self._marks = {}
         if self._is_free:
-            self.rows = [unpack(formed[at], width, m) for at in self._places]
+            self.rows = rows_of(formed, width, m)
         else:
             self.rows = least_makers(formed, width, m)
             self._marks = pivots_of(marked(self.rows), width + len(self.rows), m)
@@ -42,25 +44,22 @@ class Basis:
         """The numbers by which the rows add up to a packed row of the lot."""
         if self._is_free:
             # Each row of the form has a 1 at its head, where all the others have a 0.
-            return tuple([number_at(packed, at, self.m) for at in self._places])
+            row = unpack(packed, self.width, self.m)
+            return tuple([row[at] for at in self._places])
         rest = left_over(self._marks, packed, self.m)
-        behind = range(self.width, self.width + len(self.rows))
-        return tuple([-number_at(rest, at, self.m) % self.m for at in behind])
+        behind = unpack(rest, self.width + len(self.rows), self.m)[self.width:]
+        return tuple([-number % self.m for number in behind])
 
 
 def least_makers(pivots, width, m):
     """As few rows as can make the lot of these pivots."""
     # Rows make the lot exactly if they do so together with all p-fold rows of the lot.
     p, _ = prime_power(m)
-    rows = [pivots[at] for at in sorted(pivots)]
+    rows = rows_of(pivots, width, m)
     made = {}
-    for packed in rows:
-        put_row(made, p * packed, width, m)
-    makers = []
-    for packed in rows:
-        if put_row(made, packed, width, m):
-            makers.append(unpack(packed, width, m))
-    return makers
+    for row in rows:
+        put_row(made, p * pack(row, m), width, m)
+    return tuple([row for row in rows if put_row(made, pack(row, m), width, m)])
 
 
 def packed_tables(moves, m):

@@ -5,9 +5,9 @@ from restcounts.combining import (
 from restcounts.errors import BadNumber, BadRow, Unlike
 from restcounts.kinds import is_integer, is_integers, is_row
 from restcounts.moduli import digits, prime_power
+from restcounts.pivots import rows_of
 from restcounts.systems import (
     System, closed, dot, first_rests_of, packed_tables, row_at)
-from restcounts.packing import unpack
 from restcounts.telling import system_of_tree
 
 
@@ -76,7 +76,7 @@ def is_steady(tables):
     packed = packed_tables(tables.moves, m)
     pivots = closed((tables.first,), packed, tables.size, m)
     changes = [dot(row, tables.ends) - end for row, end in zip(tables.moves[0], tables.ends)]
-    rows = [unpack(pivots[at], tables.size, m) for at in pivots]
+    rows = rows_of(pivots, tables.size, m)
     return all([dot(row, changes) % m == 0 for row in rows])
 
 

@@ -1,15 +1,20 @@
-"""Systems of as few rows as can be, with one start, that tell a tree of a count."""
+"""Systems with one start that tell a tree of a count."""
 
 from restcounts.combining import (
     before_system, fold_system, jump_system, number_system, product_system, sum_system)
 from restcounts.powers import powers_of
-from restcounts.systems import least_system
+from restcounts.systems import least_system, shortened
 from restcounts.walking import walk_system
 
 
 def system_of_tree(tree, m):
-    """The system that tells, for each n, the rest of the value at n."""
+    """A system of as few rows as can be that tells, for each n, the rest of the value at n."""
     return least_system(plain_system(tree, m))
+
+
+def short_system_of_tree(tree, m):
+    """A system that tells the same, where rows that tell the same are the same."""
+    return shortened(plain_system(tree, m))
 
 
 def plain_system(tree, m):

@@ -139,7 +139,7 @@ class Steady(unittest.TestCase):
             self.assertEqual([told.at(n) for n in range(20)],
                              [sum(other.at(i) * other.at(n - i) for i in range(n + 1)) % m for n in range(20)])
             self.assertEqual(times(other, other).at(10 ** 60), other.at(10 ** 60) ** 2 % m)
-        self.assertLess(time.monotonic() - begin, 20)
+        self.assertLess(time.monotonic() - begin, 60)
 
 
 class Errors(unittest.TestCase):

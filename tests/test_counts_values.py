@@ -111,7 +111,7 @@ class Sizes(unittest.TestCase):
         for n in (1, 2, 50, 399):
             self.assertEqual(values[n], sum((-1) ** j * comb(n, j) * comb(8 * n - 17 * j + n - 1, n - 1)
                                             for j in range(n + 1) if 8 * n - 17 * j >= 0))
-        self.assertLess(time.monotonic() - begin, 30)
+        self.assertLess(time.monotonic() - begin, 60)
 
     def test_greatest_rests_end_in_seconds(self):
         begin = time.monotonic()
@@ -126,7 +126,7 @@ class Sizes(unittest.TestCase):
             self.assertEqual(walk_rests(powers_of("x^2+x^-2+y^2+y^-2"), powers_of("1"), 60, m)[58],
                              comb(58, 29) ** 2 % m)
             self.assertEqual(len(walk_rests(powers_of("x^2+x^-2+y*z^2+y^-2+z-3"), powers_of("1"), 20, m)), 20)
-        self.assertLess(time.monotonic() - begin, 30)
+        self.assertLess(time.monotonic() - begin, 60)
 
 
 class Walks(unittest.TestCase):

@@ -115,7 +115,7 @@ class Counts(unittest.TestCase):
             one = "walk[x + 2*x^-1 + 1; x^20 + x^-3] * 3 + walk[x - x^-1; x^31]"
             other = "walk[x^-1 + 2*x + 1; x^-20 + x^3] * 3 + walk[x^-1 - x; x^-31]"
             self.check_alike(one, other, m)
-        self.assertLess(time.monotonic() - begin, 20)
+        self.assertLess(time.monotonic() - begin, 60)
 
 
 class Papers(unittest.TestCase):
@@ -231,7 +231,7 @@ class Papers(unittest.TestCase):
             changed = Tables(m, one.first, one.moves, one.ends[:-1] + (one.ends[-1] + 1,))
             self.assertIs(is_paper(one, changed, rows), False)
             self.assertIsNone(same_tables(one, changed))
-        self.assertLess(time.monotonic() - begin, 20)
+        self.assertLess(time.monotonic() - begin, 60)
 
 
 class FirstApart(unittest.TestCase):
@@ -338,7 +338,7 @@ class FirstApart(unittest.TestCase):
                 told = first_apart(one, other, low)
                 self.assertNotEqual(one.at(told), other.at(told))
                 self.assertIsNone(first_apart(one, least_tables(one), low))
-        self.assertLess(time.monotonic() - begin, 40)
+        self.assertLess(time.monotonic() - begin, 60)
 
 
 if __name__ == "__main__":

@@ -211,7 +211,7 @@ class Arithmetic(unittest.TestCase):
         self.assertEqual(square.part_at((1, 0, 0)), 2 * -2)
         self.assertEqual(square.part_at((138, 138, 0)), 4900 ** 2)
         self.assertEqual(sum(n for _, n in square.terms), sum(n for _, n in flat.terms) ** 2)
-        self.assertLess(time.monotonic() - begin, 20)
+        self.assertLess(time.monotonic() - begin, 60)
 
     def test_large_numbers(self):
         huge = 10 ** 399 + 7

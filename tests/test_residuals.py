@@ -292,7 +292,7 @@ class Least(unittest.TestCase):
             least = least_tables(tables)
             self.assertEqual(least.size, len(orders(tables)))
             self.assertEqual(least.at(10 ** 60), tables.at(10 ** 60))
-        self.assertLess(time.monotonic() - begin, 20)
+        self.assertLess(time.monotonic() - begin, 60)
 
 
 if __name__ == "__main__":

@@ -191,7 +191,7 @@ class Steady(unittest.TestCase):
         self.assertIs(is_steady(tables), True)
         changed = Tables(7, tables.first, tables.moves, [end + 1 for end in tables.ends])
         self.assertIs(is_steady(changed), is_steady(changed))
-        self.assertLess(time.monotonic() - begin, 20)
+        self.assertLess(time.monotonic() - begin, 60)
 
 
 WALKS = (
@@ -299,7 +299,7 @@ class Told(unittest.TestCase):
             self.assertIs(is_steady(tables), True)
             self.assertEqual(tuple(tables.at(n) for n in range(15)), Count(text).first_rests(15, m), text)
             tables.at(10 ** 60)
-        self.assertLess(time.monotonic() - begin, 40)
+        self.assertLess(time.monotonic() - begin, 60)
 
 
 if __name__ == "__main__":
