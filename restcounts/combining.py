@@ -17,16 +17,16 @@ def number_system(number, m):
 def side_by_side(systems):
     """One system with the starts of all, each one in the places of its own system."""
     m = systems[0].m
-    width = sum([system.width for system in systems])
+    width = sum([one.width for one in systems])
     starts = []
     behind = width
     for system in systems:
         before = (0,) * (width - behind)
         behind = behind - system.width
         starts = starts + [before + start + (0,) * behind for start in system.starts]
-    moves = tuple([blocks([system.moves[digit] for system in systems], width)
+    moves = tuple([blocks([one.moves[digit] for one in systems], width)
                    for digit in range(len(systems[0].moves))])
-    return System(m, tuple(starts), moves, joined_rows([system.ends for system in systems]))
+    return System(m, tuple(starts), moves, joined_rows([one.ends for one in systems]))
 
 
 def blocks(tables, width):

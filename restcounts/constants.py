@@ -11,19 +11,19 @@ from restcounts.multiplying import LETTERS, greatest_exponents, least_exponents
 from restcounts.slots import Slots
 
 
-def constant_parts(steps, ends, many):
-    """The constant parts of steps to the power n, times ends, for n from 0 to many - 1."""
-    if many == 0:
+def constant_parts(steps, ends, points):
+    """The constant parts of steps to the power n, times ends, for all n in points, ascending."""
+    if not points:
         return []
     if not steps.terms or not ends.terms:
-        return [ends.constant()] + [0 for _ in range(many - 1)]
-    return Sheets(steps.terms, ends.terms, many).constants(many)
+        return [ends.constant() if n == 0 else 0 for n in points]
+    return Sheets(steps.terms, ends.terms, points[-1]).constants(points)
 
 
 class Sheets:
     """How sheets are made of the terms of steps and of ends."""
 
-    def __init__(self, steps, ends, many):
+    def __init__(self, steps, ends, most):
         low, high = least_exponents(steps), greatest_exponents(steps)
         spans = [high[at] - low[at] for at in LETTERS]
         # The letter with the widest span stands in the rows, as rows are led on at once.
@@ -34,7 +34,7 @@ class Sheets:
         self.steps = self.lines(steps, self.low)
         self.ends = self.lines(ends, self.low_ends)
         self.plain = self.ends == [((0, 0), 0, 1)]
-        self.slots = Slots(power_of(size_of_sum(steps), many // 2 + 1) * size_of_sum(ends))
+        self.slots = Slots(power_of(size_of_sum(steps), most // 2 + 1) * size_of_sum(ends))
 
     def lines(self, terms, low):
         """The terms as (exponents of two letters, exponent of the third one, number)."""
@@ -44,21 +44,33 @@ class Sheets:
             found.append(((i, j), h, number))
         return found
 
-    def constants(self, many):
-        """The constant parts for n from 0 to many - 1."""
+    def constants(self, points):
+        """The constant parts for all n in points."""
+        wanted = {n: True for n in points}
         found = []
         sheet = {(0, 0): 1}
-        rows = self.rows_of(sheet)
+        half = 0
+        ended = {}
+        # For n = 2 * half - 1 the ends are those of the sheet before.
         while True:
-            ended = rows if self.plain else self.rows_of(self.led(sheet, self.ends))
-            found.append(self.constant_part(rows, ended, len(found)))
-            if len(found) == many:
+            even = 2 * half
+            rows = self.rows_of(sheet) if even in wanted or even - 1 in wanted else {}
+            if even - 1 in wanted:
+                found.append(self.constant_part(rows, ended, even - 1))
+            if even in wanted or even + 1 in wanted:
+                ended = self.ended_rows(sheet, rows)
+            if even in wanted:
+                found.append(self.constant_part(rows, ended, even))
+            if len(found) == len(points):
                 return found
             sheet = self.led(sheet, self.steps)
-            rows = self.rows_of(sheet)
-            found.append(self.constant_part(rows, ended, len(found)))
-            if len(found) == many:
-                return found
+            half = half + 1
+
+    def ended_rows(self, sheet, rows):
+        """The rows of the sheet times the ends; rows are those of the sheet, or none are known."""
+        if not self.plain:
+            return self.rows_of(self.led(sheet, self.ends))
+        return rows or self.rows_of(sheet)
 
     def led(self, sheet, lines):
         """The sheet of the product with the terms of these lines."""

@@ -59,7 +59,7 @@ def count_of(tree):
 def walk_values(steps, ends, many):
     """The constant parts of steps to the power n, times ends, for n below many."""
     check_below("many", many, MOST_VALUES)
-    return tuple(constant_parts(steps, ends, many))
+    return tuple(constant_parts(steps, ends, tuple(range(many))))
 
 
 def walk_rests(steps, ends, many, m):

@@ -55,6 +55,11 @@ def headed(packed, width, m):
     return pack([units[0] * number for number in unpack(packed, width, m)], m)
 
 
+def entry_of(pivot):
+    """The entry of a pivot."""
+    return pivot & FIELD
+
+
 def left_over(pivots, packed, m):
     """What is left of a packed row: at each pivot's head a lower rest than the entry there."""
     for place in sorted(pivots):
@@ -89,7 +94,7 @@ def size_of(pivots, m):
     """How many rows the lot has."""
     size = 1
     for place in pivots:
-        size = size * (m // (pivots[place] & FIELD))
+        size = size * (m // entry_of(pivots[place]))
     return size
 
 

@@ -24,7 +24,7 @@ class Powers:
             numbers[power] = numbers.get(power, 0) + number
         kept = sorted([power for power in numbers if numbers[power] != 0])
         self.terms = tuple([(power, numbers[power]) for power in kept])
-        self.reach = tuple([max([abs(power[at]) for power in kept], default=0)
+        self.reach = tuple([max([abs(told[at]) for told in kept], default=0)
                             for at in range(3)])
         self._numbers = numbers
 

@@ -10,7 +10,7 @@ from restcounts.arithmetic import power_of
 from restcounts.moduli import prime_power
 from restcounts.packing import pack, unpack
 from restcounts.pivots import (
-    in_form, left_over, marked, pivots_of, put_row, rows_of, size_of)
+    entry_of, in_form, left_over, marked, pivots_of, put_row, rows_of, size_of)
 
 
 class System:
@@ -59,7 +59,11 @@ def least_makers(pivots, width, m):
     made = {}
     for row in rows:
         put_row(made, p * pack(row, m), width, m)
-    return tuple([row for row in rows if put_row(made, pack(row, m), width, m)])
+    makers = []
+    for row in rows:
+        if put_row(made, pack(row, m), width, m):
+            makers.append(row)
+    return tuple(makers)
 
 
 def packed_tables(moves, m):
@@ -89,30 +93,41 @@ def dot(one, other):
 def closed(rows, tables, width, m):
     """Pivots of the least lot with these rows and all to which the tables lead its rows."""
     pivots = {}
-    waiting = [pack(row, m) for row in rows]
-    while waiting:
-        packed = waiting.pop()
+    waiting = []
+    for row in rows:
+        if put_row(pivots, pack(row, m), width, m):
+            waiting.extend([(row, table) for table in tables])
+    while waiting and not are_all(pivots, width):
+        row, table = waiting.pop()
+        packed = led(row, table)
         if put_row(pivots, packed, width, m):
-            row = unpack(packed, width, m)
-            for table in tables:
-                waiting.append(led(row, table))
+            further = unpack(packed, width, m)
+            waiting.extend([(further, table) for table in tables])
     return pivots
 
 
-def spanned(rows, moves, width, m):
-    """The basis of the lot that closed tells, and the rows and the tables in its numbers."""
-    tables = packed_tables(moves, m)
-    basis = Basis(closed(rows, tables, width, m), width, m)
+def are_all(pivots, width):
+    """Whether the pivots are those of the lot of all rows."""
+    return len(pivots) == width and all([entry_of(pivots[at]) == 1 for at in pivots])
+
+
+def spanned(pivots, rows, tables, width, m):
+    """The basis of a lot, and rows of it and the tables in the numbers of the basis."""
+    basis = Basis(pivots, width, m)
     starts = tuple([basis.numbers(pack(row, m)) for row in rows])
-    found = tuple([tuple([basis.numbers(led(row, table)) for row in basis.rows])
+    moves = tuple([tuple([basis.numbers(led(row, table)) for row in basis.rows])
                    for table in tables])
-    return basis, starts, found
+    return basis, starts, moves
 
 
 def narrowed(system):
     """The same with a row only for what the rows to begin with lead to."""
-    m = system.m
-    basis, starts, moves = spanned(system.starts, system.moves, system.width, m)
+    m, width = system.m, system.width
+    tables = packed_tables(system.moves, m)
+    pivots = closed(system.starts, tables, width, m)
+    if are_all(pivots, width):
+        return system
+    basis, starts, moves = spanned(pivots, system.starts, tables, width, m)
     return System(m, starts, moves, tuple([dot(row, system.ends) % m for row in basis.rows]))
 
 
@@ -120,8 +135,12 @@ def shortened(system):
     """The same, where two rows that digits lead to are the same if they tell the same."""
     # The columns to which words of digits lead the ends are sums of multiples of a few. A row
     # tells what these few tell of it, so this is the row that takes its place.
-    m = system.m
-    basis, ends, moves = spanned((system.ends,), turned_tables(system.moves), system.width, m)
+    m, width = system.m, system.width
+    tables = packed_tables(turned_tables(system.moves), m)
+    pivots = closed((system.ends,), tables, width, m)
+    if are_all(pivots, width):
+        return system
+    basis, ends, moves = spanned(pivots, (system.ends,), tables, width, m)
     table = [pack(numbers, m) for numbers in zip(*basis.rows)]
     starts = tuple([unpack(led(row, table), len(basis.rows), m) for row in system.starts])
     return System(m, starts, turned_tables(moves), ends[0])
@@ -160,5 +179,5 @@ def first_rests_of(system, points):
         for number in reversed(unknown[:-1]):
             column = led(columns[number // p], turned[number % p])
             columns[number] = unpack(column, system.width, system.m)
-    return [[dot(start, columns[point]) % system.m for point in points]
+    return [[dot(start, columns[n]) % system.m for n in points]
             for start in system.starts]

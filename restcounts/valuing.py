@@ -90,11 +90,9 @@ def plain_values(tree, points, m):
 def walk_at(steps, ends, points, m):
     """The values of a walk."""
     if not m:
-        values = constant_parts(steps, ends, points[-1] + 1)
-        return [values[n] for n in points]
+        return constant_parts(steps, ends, points)
     if letters_in(steps, ends) > 1:
-        values = constant_parts(steps.modulo(m), ends.modulo(m), points[-1] + 1)
-        return [values[n] % m for n in points]
+        return reduced(constant_parts(steps.modulo(m), ends.modulo(m), points), m)
     # With one letter many values may be asked for, and the tables for them are small.
     return first_rests_of(shortened(walk_system(steps, [ends], m)), points)[0]
 

@@ -34,8 +34,7 @@ def walk_system(steps, sums, m):
     width = len(states)
     moves = tuple([tuple([spread(line[digit], places, width) for line in lines])
                    for digit in range(prime_power(m)[0])])
-    starts = tuple([spread([((0, power), number % m) for power, number in one.terms], places, width)
-                    for one in sums])
+    starts = tuple([spread(first_states(one, m), places, width) for one in sums])
     ends = tuple([1 if power == NO_LETTER else 0 for _, power in states])
     return System(m, starts, moves, ends)
 
@@ -47,6 +46,11 @@ def powers_in(sums):
         for power, _ in one.terms:
             found[power] = True
     return sorted(list(found))
+
+
+def first_states(one, m):
+    """The states with which a sum begins, with the rests of their numbers."""
+    return [((0, power), number % m) for power, number in one.terms]
 
 
 def spread(terms, places, width):
