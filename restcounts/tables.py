@@ -8,7 +8,7 @@ from restcounts.moduli import digits, prime_power
 from restcounts.pivots import rows_of
 from restcounts.systems import (
     System, closed, dot, first_rests_of, packed_tables, row_at)
-from restcounts.telling import system_of_tree
+from restcounts.telling import plain_system, system_of_tree
 
 
 class Tables:
@@ -91,7 +91,8 @@ def rest_at(count, n, m):
     if not is_integer(n) or n < 0:
         raise BadNumber("n", n)
     prime_power(m)
-    return first_rests_of(system_of_tree(count.tree, m), (n,))[0][0]
+    # For one n alone it is not worth while to look for fewer rows.
+    return first_rests_of(plain_system(count.tree, m), (n,))[0][0]
 
 
 def check_moduli(one, other):

@@ -45,6 +45,8 @@ def plain_system(tree, m):
 def system_of_product(factors, m):
     """A system that tells the product of all factors."""
     total = system_of_tree(factors[0], m)
-    for factor in factors[1:]:
-        total = least_system(product_system(total, system_of_tree(factor, m)))
+    for at, factor in enumerate(factors[1:]):
+        # The numbers of rows are multiplied, so fewer are looked for ahead of each product.
+        before = least_system(total) if at > 0 else total
+        total = product_system(before, system_of_tree(factor, m))
     return total
