@@ -290,14 +290,14 @@ class FirstApart(unittest.TestCase):
         return Tables(p, [1] + [0] * (size - 1), moves, [0] * (size - 1) + [1])
 
     def test_differences_that_come_late(self):
-        for p, many in ((2, 199), (3, 90), (5, 85), (7, 71)):
+        for p, many in ((2, 20), (2, 95), (3, 20), (3, 95), (5, 86), (7, 20), (7, 70)):
             chance = random.Random(p)
-            word = [chance.randrange(p) for _ in range(20)] + [1]
+            word = [chance.randrange(p) for _ in range(many)] + [1]
             one = self.chain(p, word, None)
             zero = Tables(p, (0,), [((1,),)] * p, (0,))
             self.assertIs(is_steady(one), True)
             place = sum(digit * p ** at for at, digit in enumerate(word))
-            for low, wanted in ((0, place), (place - 1, place), (place, place), (place + 1, None), (10 ** 60, None)):
+            for low, wanted in ((0, place), (place - 1, place), (place, place), (place + 1, None)):
                 self.assertEqual(first_apart(one, zero, low), wanted)
             # A number of many digits: the same word again and again.
             again = self.chain(p, word, 1)
