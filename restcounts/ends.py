@@ -3,11 +3,12 @@
 from restcounts.combining import side_by_side, sum_system
 from restcounts.errors import BadRow, TooMany, Unlike
 from restcounts.kinds import is_row
+from restcounts.likeness import same_tables
 from restcounts.moduli import prime_power
 from restcounts.pivots import solved
 from restcounts.powers import Powers
 from restcounts.relating import annihilator, lot_of_values
-from restcounts.searching import least_number, least_word
+from restcounts.searching import least_number, least_word, short_word
 from restcounts.systems import (
     System, first_rests_of, least_system, shortened, turned_tables)
 from restcounts.tables import Tables, system_of
@@ -84,10 +85,12 @@ def turned(tables):
 
 def symmetric(tables):
     """None if words and these from behind have equal values; else the first word where not."""
-    apart = sum_system((1, -1), (system_of(tables), system_of(turned(tables))))
-    word = least_word(least_system(apart))
-    if word is None:
-        return None
+    behind = turned(tables)
+    apart = sum_system((1, -1), (system_of(tables), system_of(behind)))
+    # Most differences come soon, and likeness is seen at once; the search takes longer.
+    word = short_word(apart)
+    if word is not None or same_tables(tables, behind) is not None:
+        return word
     # With each word the same word from behind has unlike values, and least_word looks at the
     # last digits first.
-    return tuple(list(reversed(word)))
+    return tuple(list(reversed(least_word(least_system(apart)))))

@@ -6,7 +6,7 @@ from restcounts.kinds import is_integer, is_row
 from restcounts.moduli import prime_power
 from restcounts.packing import pack, unpack
 from restcounts.pivots import left_over, pivots_of
-from restcounts.searching import least_number
+from restcounts.searching import NEAR, least_number, near_number
 from restcounts.systems import (
     closed, dot, least_makers, least_system, led, packed_tables)
 from restcounts.tables import check_moduli, system_of, tables_of
@@ -86,4 +86,9 @@ def first_apart(one, other, low):
     check_moduli(one, other)
     if not is_integer(low) or low < 0:
         raise BadNumber("low", low)
-    return least_number(least_system(joint_system(one, other)), low)
+    system = joint_system(one, other)
+    # Most differences come soon, and likeness is seen at once; the search takes longer.
+    near = near_number(system, low)
+    if near is not None or same_tables(one, other) is not None:
+        return near
+    return least_number(least_system(system), low + NEAR)

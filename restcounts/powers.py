@@ -59,8 +59,9 @@ class Powers:
         return Powers(negated(self.terms))
 
     def __eq__(self, other):
-        beside = as_powers(other)
-        return beside is not None and self.terms == beside.terms
+        if is_integer(other):
+            return self.terms == constant_terms(other)
+        return isinstance(other, Powers) and self.terms == other.terms
 
     def raised(self, n):
         """The product of n sums like this one."""
@@ -69,7 +70,7 @@ class Powers:
         if n > MOST_RAISED:
             raise TooLarge("n", n, MOST_RAISED)
         if n == 0:
-            return Powers([(NO_LETTER, 1)])
+            return Powers(constant_terms(1))
         return Powers(raised_terms(self.terms, n))
 
     def constant(self):
@@ -121,8 +122,13 @@ def as_powers(value):
     if isinstance(value, Powers):
         return value
     if is_integer(value):
-        return Powers([(NO_LETTER, value)])
+        return Powers(constant_terms(value))
     return None
+
+
+def constant_terms(number):
+    """The terms of the sum that an integer stands for."""
+    return ((NO_LETTER, number),) if number != 0 else ()
 
 
 def negated(terms):

@@ -3,7 +3,11 @@
 from restcounts.moduli import digits, number_of, prime_power
 from restcounts.packing import pack, unpack
 from restcounts.pivots import in_form, put_row, rows_of
-from restcounts.systems import dot, led, packed_tables, turned_tables
+from restcounts.systems import dot, first_rests_of, led, packed_tables, turned_tables
+
+# So many numbers are looked at one by one, and all words of so many digits.
+NEAR = 50
+FEW_DIGITS = 2
 
 
 class Levels:
@@ -80,6 +84,31 @@ class Levels:
         grown = [put_row(gathered, pack(row, self.m), self.width, self.m)
                  for row in self.rows_at(level)]
         return any(grown)
+
+
+def short_word(system):
+    """The first word of a few digits at which the start tells no 0; None if there is none.
+
+    Words of fewer digits come first, and those of equally many in ascending order.
+    """
+    tables = packed_tables(system.moves, system.m)
+    reached = [((), system.starts[0])]
+    for _ in range(FEW_DIGITS + 1):
+        for word, row in reached:
+            if dot(row, system.ends) % system.m != 0:
+                return word
+        reached = [(word + (digit,), unpack(led(row, table), system.width, system.m))
+                   for word, row in reached for digit, table in enumerate(tables)]
+    return None
+
+
+def near_number(system, low):
+    """The first of a few n from low on at which some start of a steady system tells no 0."""
+    values = first_rests_of(system, tuple(range(low, low + NEAR)))
+    for at in range(NEAR):
+        if any([rests[at] != 0 for rests in values]):
+            return low + at
+    return None
 
 
 def least_word(system):

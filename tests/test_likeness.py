@@ -9,7 +9,7 @@ from plain_lots import made_by
 from restcounts.counts import Count
 from restcounts.errors import BadNumber, Unlike
 from restcounts.likeness import Alike, Apart, alike, first_apart, is_paper, same_tables
-from restcounts.moduli import prime_power
+from restcounts.moduli import digits, prime_power
 from restcounts.residuals import least_tables
 from restcounts.tables import Tables, is_steady, jumped, plus, scaled, tables_of, times
 
@@ -267,6 +267,18 @@ class FirstApart(unittest.TestCase):
                 one, other = tables_of(Count(f"walk[x^-1; x^{place}]"), m), tables_of(Count("0"), m)
                 for low in range(0, 40):
                     self.assertEqual(first_apart(one, other, low), place if low <= place else None)
+            # Differences that come close behind low, and less close.
+            place = 10 ** 20 + 7
+            one, zero = self.at_one_number(m, place), tables_of(Count("0"), m)
+            for gap in list(range(0, 120, 7)) + [48, 49, 50, 51, 52, 99, 100, 101]:
+                self.assertEqual(first_apart(one, zero, place - gap), place)
+            self.assertIsNone(first_apart(one, zero, place + 1))
+
+    def at_one_number(self, m, place):
+        """Tables that tell 1 at this number, and else 0."""
+        p, _ = prime_power(m)
+        one = self.chain(p, digits(place, p), None)
+        return Tables(m, one.first, one.moves, one.ends)
 
     def chain(self, p, word, round_from):
         """Tables that tell 1 at the words that go on to the last state, and else 0.
