@@ -7,8 +7,10 @@ from restcounts.slots import Slots
 
 # So many pairs of terms are multiplied one by one in a short time.
 FEW_PAIRS = 20000
-# With more terms than this, products of squares take less time than one number at a time.
+# With more terms than this, or an exponent up to this, products of squares take less time than
+# one number at a time.
 FEW_TERMS = 500
+LOW_EXPONENT = 3
 ONE = (((0, 0, 0), 1),)
 LETTERS = (0, 1, 2)
 
@@ -97,7 +99,7 @@ def raised_terms(terms, n):
     """The terms of the sum to the power n, for n from 1 on; terms are in ascending order."""
     if not terms:
         return []
-    if len(terms) > FEW_TERMS:
+    if len(terms) > FEW_TERMS or n <= LOW_EXPONENT:
         return squared_terms(terms, n)
     lowest, number = terms[0]
     line = Line(terms, lowest, n)

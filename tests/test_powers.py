@@ -211,6 +211,11 @@ class Arithmetic(unittest.TestCase):
         self.assertEqual(square.part_at((1, 0, 0)), 2 * -2)
         self.assertEqual(square.part_at((138, 138, 0)), 4900 ** 2)
         self.assertEqual(sum(n for _, n in square.terms), sum(n for _, n in flat.terms) ** 2)
+        sparse = Powers([((at ** 5, 0, BIG ** at), at + 1) for at in range(190)])
+        self.assertEqual(len(sparse.raised(2).terms), 190 * 191 // 2)
+        self.assertEqual(sparse.raised(2), sparse * sparse)
+        few = Powers(sparse.terms[:20])
+        self.assertEqual(few.raised(4), few * few * few * few)
         self.assertLess(time.monotonic() - begin, 60)
 
     def test_large_numbers(self):
