@@ -12,6 +12,11 @@ from restcounts.packing import pack, unpack
 from restcounts.pivots import (
     entry_of, in_form, left_over, marked, pivots_of, put_row, rows_of, size_of)
 
+# Tables of more rows than this are wide.
+WIDE = 100
+# So many rows that are led to known ones let a lot seem closed.
+PATIENCE = 20
+
 
 class System:
     """Starts, a tuple of rows; moves, a table for each digit; ends. All numbers are rests."""
@@ -39,16 +44,21 @@ class Basis:
         else:
             self.rows = least_makers(formed, width, m)
             self._marks = pivots_of(marked(self.rows), width + len(self.rows), m)
+        self._packed = [pack(row, m) for row in self.rows]
 
     def numbers(self, packed):
-        """The numbers by which the rows add up to a packed row of the lot."""
+        """The numbers by which the rows add up to a packed row; None if the lot has it not."""
         if self._is_free:
             # Each row of the form has a 1 at its head, where all the others have a 0.
             row = unpack(packed, self.width, self.m)
-            return tuple([row[at] for at in self._places])
+            numbers = tuple([row[at] for at in self._places])
+            made = unpack(led(numbers, self._packed), self.width, self.m)
+            return numbers if made == row else None
         rest = left_over(self._marks, packed, self.m)
-        behind = unpack(rest, self.width + len(self.rows), self.m)[self.width:]
-        return tuple([-number % self.m for number in behind])
+        left = unpack(rest, self.width + len(self.rows), self.m)
+        if any(left[:self.width]):
+            return None
+        return tuple([-number % self.m for number in left[self.width:]])
 
 
 def least_makers(pivots, width, m):
@@ -78,10 +88,25 @@ def turned_tables(moves):
 
 def led(row, table):
     """The packed row, its numbers not yet rests, that the row times a packed table is."""
+    if len(table) > WIDE:
+        return led_wide(row, table)
     total = 0
     for number, packed in zip(row, table):
         if number != 0:
             total = total + number * packed
+    return total
+
+
+def led_wide(row, table):
+    """The same for many rows."""
+    # As rests are few, it takes less time to add up the rows with equal rests first.
+    sums = {}
+    for number, packed in zip(row, table):
+        if number != 0:
+            sums[number] = sums.get(number, 0) + packed
+    total = 0
+    for number, packed in sums.items():
+        total = total + number * packed
     return total
 
 
@@ -90,44 +115,82 @@ def dot(one, other):
     return sum([a * b for a, b in zip(one, other)])
 
 
+class Closing:
+    """The least lot with some rows and all to which tables lead its rows, as far as it is found."""
+
+    def __init__(self, rows, tables, width, m):
+        self.m = m
+        self.width = width
+        self.pivots = {}
+        self._tables = tables
+        # Pairs of a row and of a table by which it is not led yet.
+        self._waiting = []
+        for row in rows:
+            self.put(pack(row, m))
+
+    def put(self, packed):
+        """Put a packed row into the lot; whether the lot has grown."""
+        grown = put_row(self.pivots, packed, self.width, self.m)
+        if grown:
+            row = unpack(packed, self.width, self.m)
+            self._waiting.extend([(row, table) for table in self._tables])
+        return grown
+
+    def is_all(self):
+        """Whether it is the lot of all rows."""
+        return (len(self.pivots) == self.width
+                and all([entry_of(self.pivots[at]) == 1 for at in self.pivots]))
+
+    def go_on(self, patience):
+        """Lead rows until so many in turn are led to known ones; all if patience is None."""
+        known = 0
+        while self._waiting and known != patience and not self.is_all():
+            row, table = self._waiting.pop()
+            known = 0 if self.put(led(row, table)) else known + 1
+
+
 def closed(rows, tables, width, m):
     """Pivots of the least lot with these rows and all to which the tables lead its rows."""
-    pivots = {}
-    waiting = []
-    for row in rows:
-        if put_row(pivots, pack(row, m), width, m):
-            waiting.extend([(row, table) for table in tables])
-    while waiting and not are_all(pivots, width):
-        row, table = waiting.pop()
-        packed = led(row, table)
-        if put_row(pivots, packed, width, m):
-            further = unpack(packed, width, m)
-            waiting.extend([(further, table) for table in tables])
-    return pivots
+    closing = Closing(rows, tables, width, m)
+    closing.go_on(None)
+    return closing.pivots
 
 
-def are_all(pivots, width):
-    """Whether the pivots are those of the lot of all rows."""
-    return len(pivots) == width and all([entry_of(pivots[at]) == 1 for at in pivots])
+def spanned(rows, tables, width, m):
+    """The basis of this least lot, and the rows and the tables in the numbers of the basis.
 
-
-def spanned(pivots, rows, tables, width, m):
-    """The basis of a lot, and rows of it and the tables in the numbers of the basis."""
-    basis = Basis(pivots, width, m)
+    None if it is the lot of all rows.
+    """
+    closing = Closing(rows, tables, width, m)
+    patience = PATIENCE
+    while True:
+        closing.go_on(patience)
+        if closing.is_all():
+            return None
+        # The rows of the basis are led by all tables in any case, so this shows whether the
+        # lot is closed.
+        basis = Basis(closing.pivots, width, m)
+        images = [led(row, table) for table in tables for row in basis.rows]
+        lines = [basis.numbers(packed) for packed in images]
+        fresh = [packed for packed, numbers in zip(images, lines) if numbers is None]
+        if not fresh:
+            break
+        for packed in fresh:
+            closing.put(packed)
+        patience = 2 * patience
     starts = tuple([basis.numbers(pack(row, m)) for row in rows])
-    moves = tuple([tuple([basis.numbers(led(row, table)) for row in basis.rows])
-                   for table in tables])
+    many = len(basis.rows)
+    moves = tuple([tuple(lines[at * many:(at + 1) * many]) for at in range(len(tables))])
     return basis, starts, moves
 
 
 def narrowed(system):
     """The same with a row only for what the rows to begin with lead to."""
     m, width = system.m, system.width
-    tables = packed_tables(system.moves, m)
-    pivots = closed(system.starts, tables, width, m)
-    if are_all(pivots, width):
+    found = spanned(system.starts, packed_tables(system.moves, m), width, m)
+    if found is None:
         return system
-    basis, starts, moves = spanned(pivots, system.starts, tables, width, m)
+    basis, starts, moves = found
     return System(m, starts, moves, tuple([dot(row, system.ends) % m for row in basis.rows]))
 
 
@@ -137,10 +200,10 @@ def shortened(system):
     # tells what these few tell of it, so this is the row that takes its place.
     m, width = system.m, system.width
     tables = packed_tables(turned_tables(system.moves), m)
-    pivots = closed((system.ends,), tables, width, m)
-    if are_all(pivots, width):
+    found = spanned((system.ends,), tables, width, m)
+    if found is None:
         return system
-    basis, ends, moves = spanned(pivots, (system.ends,), tables, width, m)
+    basis, ends, moves = found
     table = [pack(numbers, m) for numbers in zip(*basis.rows)]
     starts = tuple([unpack(led(row, table), len(basis.rows), m) for row in system.starts])
     return System(m, starts, turned_tables(moves), ends[0])
