@@ -333,6 +333,39 @@ class FirstApart(unittest.TestCase):
                     told = first_apart(tables, zero, low)
                     self.assertTrue(told == wanted or wanted is None and told >= 1500)
 
+    def round_tables(self, p, ahead, states):
+        """Tables with some states ahead of a round of states, one behind the other by each digit.
+
+        Only from the first state of the round digits above 0 lead to the last state, at which the
+        value is 1 if but zeros follow.
+        """
+        size = ahead + states + 1
+        moves = []
+        for digit in range(p):
+            rows = [[int(j == (at + 1 if at < size - 2 else ahead)) for j in range(size)] for at in range(size - 1)]
+            if digit:
+                rows[ahead] = [0] * (size - 1) + [1]
+            rows.append([0] * (size - 1) + [int(digit == 0)])
+            moves.append(rows)
+        return Tables(p, [1] + [0] * (size - 1), moves, [0] * (size - 1) + [1])
+
+    def test_lots_that_go_round(self):
+        for p, ahead, states in ((2, 0, 2), (2, 1, 3), (2, 0, 3), (2, 2, 5), (3, 0, 3), (3, 1, 3), (5, 1, 2)):
+            tables = self.round_tables(p, ahead, states)
+            self.assertIs(is_steady(tables), True)
+            zero = Tables(p, (), ((),) * p, ())
+            values = [n for n in range(15000) if tables.at(n)]
+            lows = [place + 1 for place, after in zip(values, values[1:]) if after > place + 60]
+            self.assertTrue(lows)
+            for low in lows + [place + 7 for place in lows]:
+                self.assertEqual(first_apart(tables, zero, low), next(n for n in values if n >= low))
+            for place in (ahead + 10 * states, ahead + 13 * states):
+                # The greatest one of so many digits, and the least one of more digits.
+                highest = (p - 1) * sum(p ** at for at in range(place + 1)
+                                        if at == place or at < ahead or (at - ahead) % states)
+                self.assertEqual(first_apart(tables, zero, highest), highest)
+                self.assertEqual(first_apart(tables, zero, highest + 1), p ** (place + states))
+
     def test_wrong_low(self):
         one = tables_of(Count("1"), 4)
         for low in NO_NUMBERS:
