@@ -66,6 +66,4 @@ def walk_rests(steps, ends, many, m):
     """The rests of these constant parts."""
     check_below("many", many, MOST_RESTS)
     prime_power(m)
-    if many == 0:
-        return ()
     return tuple(walk_at(steps, ends, tuple(range(many)), m))

@@ -144,7 +144,8 @@ class Walks(unittest.TestCase):
                     told = walk_rests(one, other, 9, m)
                     self.assertIs(type(told), tuple)
                     self.assertEqual(told, tuple(value % m for value in wanted))
-                self.assertEqual(walk_rests(one, other, 0, 4), ())
+                for many in (0, 1, 2):
+                    self.assertEqual(walk_rests(one, other, many, 9), tuple(value % 9 for value in wanted[:many]))
 
     def test_random_walks(self):
         chance = random.Random(71)
