@@ -8,7 +8,7 @@ from restcounts.lots import Lot, kernel, multiples
 from restcounts.moduli import prime_power
 from restcounts.packing import unpack
 from restcounts.searching import least_number
-from restcounts.systems import System, dot, first_rests_of, led, packed_tables, shortened
+from restcounts.systems import System, dot, first_rests_of, led, led_by_all, packed_tables, shortened
 from restcounts.telling import short_system_of_tree, system_of_tree
 
 MOST_COUNTS = 8
@@ -140,5 +140,5 @@ def zero_classes(count, m, j):
     rows = [system.starts[0]]
     for _ in range(j):
         # The digit that comes next is higher than all before.
-        rows = [unpack(led(row, table), system.width, m) for table in tables for row in rows]
+        rows = led_by_all(rows, tables, system.width, m)
     return tuple([number for number, row in enumerate(rows) if not any(row)])

@@ -63,17 +63,18 @@ class Basis:
 
 def least_makers(pivots, width, m):
     """As few rows as can make the lot of these pivots."""
+    rows = rows_of(pivots, width, m)
+    return tuple([rows[at] for at in needed(rows, width, m)])
+
+
+def needed(rows, width, m):
+    """The places of as few of these rows as can make the lot that all of them make."""
     # Rows make the lot exactly if they do so together with all p-fold rows of the lot.
     p, _ = prime_power(m)
-    rows = rows_of(pivots, width, m)
     made = {}
     for row in rows:
         put_row(made, p * pack(row, m), width, m)
-    makers = []
-    for row in rows:
-        if put_row(made, pack(row, m), width, m):
-            makers.append(row)
-    return tuple(makers)
+    return [at for at, row in enumerate(rows) if put_row(made, pack(row, m), width, m)]
 
 
 def packed_tables(moves, m):
@@ -147,6 +148,30 @@ class Closing:
         while self._waiting and known != patience and not self.is_all():
             row, table = self._waiting.pop()
             known = 0 if self.put(led(row, table)) else known + 1
+
+
+def makers_met(row, tables, width, m):
+    """Rows to which words of digits lead this row, and that make the lot of all such rows.
+
+    Pairs of the word, in the order in which its digits lead, and of the row.
+    """
+    pivots = {}
+    found = []
+    waiting = [((), row)]
+    done = 0
+    while done < len(waiting):
+        word, reached = waiting[done]
+        done = done + 1
+        if put_row(pivots, pack(reached, m), width, m):
+            found.append((word, reached))
+            waiting.extend([(word + (digit,), unpack(led(reached, table), width, m))
+                            for digit, table in enumerate(tables)])
+    return found
+
+
+def led_by_all(rows, tables, width, m):
+    """The rows to which the tables lead these rows, those of the first table first."""
+    return [unpack(led(row, table), width, m) for table in tables for row in rows]
 
 
 def closed(rows, tables, width, m):

@@ -17,6 +17,11 @@ def short_system_of_tree(tree, m):
     return shortened(plain_system(tree, m))
 
 
+def exact_system_of_tree(tree, m):
+    """A system of few rows that tells the same, where rows that tell the same are the same."""
+    return shortened(system_of_tree(tree, m))
+
+
 def plain_system(tree, m):
     """A system that tells the tree, put together from those of its parts."""
     kind = tree[0]

@@ -26,7 +26,8 @@ PROMISED = set((
     "walk_rests is_steady tables_of rest_at plus times scaled along_first summed folded jumped reached "
     "blind behind least_tables orders fewest alike same_tables is_paper first_apart relations made_of "
     "rule lucas lasting zero_classes values_lot enough end_relations ends_for alike_ends turned "
-    "symmetric").split())
+    "symmetric deciders decides order_free settles residual_relations likenesses least_machine machine_of "
+    "paired first_unlike mapped comes comes_again last along_powers along_words run_of").split())
 FORBIDDEN = (ast.Global, ast.AsyncFunctionDef, ast.Await, ast.Div)
 
 
