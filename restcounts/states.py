@@ -4,6 +4,8 @@ Rows of moves have one state for each digit, or for each of so many steps of ano
 States are numbered from 0 on; the first one is where reading begins.
 """
 
+from restcounts.moduli import digits, number_of
+
 
 def explored(start, lead, many, most):
     """The states to which steps lead, as they are first met, and the rows of their moves.
@@ -11,8 +13,13 @@ def explored(start, lead, many, most):
     lead tells for a state and a number below many the state to which it goes on. None if there
     are more than most states; most is None if all are wanted, however many.
     """
-    places = {start: 0}
-    states = [start]
+    return explored_from([start], lead, many, most)
+
+
+def explored_from(starts, lead, many, most):
+    """The same for several unlike states to begin with, which get the first numbers."""
+    places = {start: at for at, start in enumerate(starts)}
+    states = list(starts)
     moves = []
     # States are added while those that stand there are worked off.
     while len(moves) < len(states):
@@ -161,3 +168,79 @@ def going_by(moves):
     def lead(state, step):
         return moves[state][step]
     return lead
+
+
+def endless_marks(moves, flags):
+    """For each state whether flagged states are met behind it at infinitely many numbers.
+
+    The flags are such that a digit 0 above the highest one changes nothing.
+    """
+    ways_back = [[] for _ in moves]
+    for state, row in enumerate(moves):
+        for further in row:
+            ways_back[further].append(state)
+    # First the states behind which flagged ones are met at some number above 0.
+    waiting = [state for state, row in enumerate(moves) if any([flags[further] for further in row[1:]])]
+    marks = [False for _ in moves]
+    for state in waiting:
+        marks[state] = True
+    while waiting:
+        for state in ways_back[waiting.pop()]:
+            if not marks[state]:
+                marks[state] = True
+                waiting.append(state)
+    # Among these, only those from which one can go on for ever are kept.
+    ways = [len([True for further in row if marks[further]]) for row in moves]
+    waiting = [state for state, many in enumerate(ways) if marks[state] and many == 0]
+    while waiting:
+        gone = waiting.pop()
+        marks[gone] = False
+        for state in ways_back[gone]:
+            ways[state] = ways[state] - 1
+            if marks[state] and ways[state] == 0:
+                waiting.append(state)
+    return marks
+
+
+def least_flagged(moves, flags, low, p):
+    """The least number from low on that leads to a flagged state; None if there is none.
+
+    The flags are such that a digit 0 above the highest one changes nothing.
+    """
+    word = digits(low, p)
+    # columns[at] are the flags of the states to which the digits of low from at on lead.
+    columns = [flags]
+    for digit in reversed(word):
+        columns.append([columns[-1][row[digit]] for row in moves])
+    columns.reverse()
+    if columns[0][0]:
+        return low
+    level = {0: 0}
+    seen = {}
+    power = 1
+    place = 0
+    # The number has the digits of low above this place, and a higher one than low at it.
+    while level:
+        above = word[place + 1:]
+        column = columns[len(word) - len(above)]
+        for digit in range(word[place] + 1 if place < len(word) else 1, p):
+            fitting = [number for state, number in level.items() if column[moves[state][digit]]]
+            if fitting:
+                return min(fitting) + power * (digit + p * number_of(above, p))
+        level = led_numbers(moves, level, power)
+        power = power * p
+        place = place + 1
+        if place >= len(word):
+            level = {state: number for state, number in level.items() if state not in seen}
+            seen.update(level)
+    return None
+
+
+def led_numbers(moves, level, power):
+    """The least numbers with a digit more, for each state to which they lead."""
+    reached = {}
+    for state, number in level.items():
+        for digit, further in enumerate(moves[state]):
+            told = number + digit * power
+            reached[further] = min(told, reached.get(further, told))
+    return reached

@@ -27,7 +27,9 @@ PROMISED = set((
     "blind behind least_tables orders fewest alike same_tables is_paper first_apart relations made_of "
     "rule lucas lasting zero_classes values_lot enough end_relations ends_for alike_ends turned "
     "symmetric deciders decides order_free settles residual_relations likenesses least_machine machine_of "
-    "paired first_unlike mapped comes comes_again last along_powers along_words run_of").split())
+    "paired first_unlike mapped comes comes_again last along_powers along_words run_of how_many "
+    "nth shares period_of breaks_period as_many recurrence depth_machine always_divides least_not "
+    "least_at").split())
 FORBIDDEN = (ast.Global, ast.AsyncFunctionDef, ast.Await, ast.Div)
 
 
