@@ -3,6 +3,10 @@
 from restcounts.errors import BadText
 
 FIGURES = "0123456789"
+LETTERS = "abcdefghijklmnopqrstuvwxyz"
+CAPITALS = "ABCDEFGHIJKLMNOPQRSTUVWXYZ"
+NAME_SIGNS = LETTERS + FIGURES
+MOST_NAME_SIGNS = 20
 
 
 class Scanner:
@@ -59,6 +63,34 @@ class Scanner:
                 self.fail()
             if most is not None and self.place - begin >= most:
                 self.fail()
+            self.step_on()
+        return self.text[begin:self.place]
+
+    def is_apart(self):
+        """Whether something that is no sign may begin here, as none ends just ahead."""
+        return not self.text[self.place - 1:self.place].isalnum()
+
+    def begin(self):
+        """Read spaces up to something that is no sign; BadText if it stands at once behind another."""
+        self.skip()
+        if not self.is_apart():
+            self.fail()
+
+    def word(self, word):
+        """Read the characters of this word."""
+        for sign in word:
+            if self.here() != sign:
+                self.fail()
+            self.step_on()
+
+    def read_name(self):
+        """Read a name as far as it goes, and tell it."""
+        begin = self.place
+        if self.here() == "" or self.here() not in CAPITALS:
+            self.fail()
+        self.step_on()
+        while (self.here() != "" and self.here() in NAME_SIGNS
+               and self.place - begin < MOST_NAME_SIGNS):
             self.step_on()
         return self.text[begin:self.place]
 

@@ -36,7 +36,67 @@ COUNTS = {
     "D": (("0",), ("<1-9>",), ("<1-9>", "<0-9>"), ("<1-9>", "<0-9>", "<0-9>")),
 }
 
-CLASSES = {"<0-9>": "0123456789", "<1-9>": "123456789"}
+CLASSES = {"<0-9>": "0123456789", "<1-9>": "123456789", "<1-4>": "1234", "<a-z>": "abcdefghijklmnopqrstuvwxyz",
+           "<A-Z>": "ABCDEFGHIJKLMNOPQRSTUVWXYZ", "<a-z0-9>": "abcdefghijklmnopqrstuvwxyz0123456789"}
+
+
+def up_to(name, kind, many):
+    """The rules for up to so many characters of a kind, and the name of what stands for them."""
+    rules = {f"{name}0": ((),)}
+    for left in range(1, many + 1):
+        rules[f"{name}{left}"] = ((), (kind, f"{name}{left - 1}"))
+    return rules
+
+
+WORD, SIGN = "w", "s"
+
+
+def gap(end, begin):
+    """The spaces between what ends and what begins with a word or a sign."""
+    return "G" if end == begin == WORD else "S"
+
+
+def joined_ways(part, whole, word, begin, end):
+    """The ways of parts with a word between them; all are named with how they begin and end."""
+    ways = [(part + begin + end,)]
+    for end2 in (WORD, SIGN):
+        for begin2 in (WORD, SIGN):
+            ways.append((part + begin + end2, gap(end2, WORD), *word, gap(WORD, begin2), whole + begin2 + end))
+    return tuple(ways)
+
+
+def statement_rules():
+    """The rules of statements: each of their names ends with how they begin and end, by word or sign."""
+    rules = {}
+    kinds = (WORD, SIGN)
+    for end in kinds:
+        ways = [("n", "o", "t", gap(WORD, begin), "PART" + begin + end) for begin in kinds]
+        for words in (("f", "o", "r", "G", "a", "l", "l"), ("t", "h", "e", "r", "e", "G", "i", "s")):
+            ways += [(*words, "G", "LETTERS", "S", ":", "S", "STATEMENT" + begin + end) for begin in kinds]
+        rules[f"PARTw{end}"] = tuple(ways)
+    rules["PARTww"] += (
+        ("TERM", "S", "=", "S", "TERM"), ("TERM", "S", "<", "S", "TERM"),
+        ("NAME", "G", "a", "t", "G", "TERM", "G", "i", "s", "G", "NUMBER"))
+    rules["PARTsw"] = ()
+    rules["PARTss"] = tuple(("(", "S", "STATEMENT" + begin + end, "S", ")") for begin in kinds for end in kinds)
+    for begin in kinds:
+        for end in kinds:
+            rules["CHOICE" + begin + end] = joined_ways("PART", "CHOICE", "and", begin, end)
+            rules["STATEMENT" + begin + end] = joined_ways("CHOICE", "STATEMENT", "or", begin, end)
+    return rules
+
+
+STATEMENTS = {
+    "TEXT": tuple(("S", "STATEMENT" + begin + end, "S") for begin in (WORD, SIGN) for end in (WORD, SIGN)),
+    **statement_rules(),
+    "LETTERS": (("<a-z>",), ("<a-z>", "S", ",", "S", "LETTERS")),
+    "TERM": (("ITEM",), ("ITEM", "S", "+", "S", "TERM")),
+    "ITEM": (("NUMBER",), ("<a-z>",), ("<1-4>", "S", "*", "S", "<a-z>")),
+    "NUMBER": (("0",), ("<1-9>", "F5")),
+    "NAME": (("<A-Z>", "T19"),),
+    "G": ((" ", "S"),),
+    **up_to("F", "<0-9>", 5), **up_to("T", "<a-z0-9>", 19), **SPACES,
+}
 
 
 class Reader:

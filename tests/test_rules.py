@@ -29,7 +29,7 @@ PROMISED = set((
     "symmetric deciders decides order_free settles residual_relations likenesses least_machine machine_of "
     "paired first_unlike mapped comes comes_again last along_powers along_words run_of how_many "
     "nth shares period_of breaks_period as_many recurrence depth_machine always_divides least_not "
-    "least_at").split())
+    "least_at decide truth_machine solutions witness").split())
 FORBIDDEN = (ast.Global, ast.AsyncFunctionDef, ast.Await, ast.Div)
 
 
