@@ -10,10 +10,14 @@ MOST_NAME_SIGNS = 20
 
 
 class Scanner:
-    """A text and the place up to which it is read; what is read can go on to a right text."""
+    """A text and the place up to which it is read; what is read can go on to a right text.
 
-    def __init__(self, text):
+    known are the names that may stand as factors of a count, None where no name may stand.
+    """
+
+    def __init__(self, text, known=None):
         self.text = text
+        self.known = known
         self.place = 0
 
     def here(self):
@@ -52,8 +56,11 @@ class Scanner:
             self.step_on()
         return found
 
-    def figures(self, most):
-        """Read the figures of a number and tell them; at most so many, any number if None."""
+    def figures(self, most=None, greatest=None):
+        """Read the figures of a number and tell them.
+
+        They are at most so many, and tell no more than the greatest number; None bounds nothing.
+        """
         self.skip()
         begin = self.place
         if not self.at_figure():
@@ -62,6 +69,8 @@ class Scanner:
             if self.text[begin] == "0" and self.place > begin:
                 self.fail()
             if most is not None and self.place - begin >= most:
+                self.fail()
+            if greatest is not None and int(self.text[begin:self.place + 1]) > greatest:
                 self.fail()
             self.step_on()
         return self.text[begin:self.place]
@@ -83,10 +92,24 @@ class Scanner:
                 self.fail()
             self.step_on()
 
+    def one_of(self, words):
+        """Read one of these words, none of which begins another one, character by character."""
+        begun = ""
+        while begun not in words:
+            begun = begun + self.here()
+            if self.here() == "" or not any([word.startswith(begun) for word in words]):
+                self.fail()
+            self.step_on()
+        return begun
+
+    def at_capital(self):
+        """Whether a name may begin here."""
+        return self.here() != "" and self.here() in CAPITALS
+
     def read_name(self):
         """Read a name as far as it goes, and tell it."""
         begin = self.place
-        if self.here() == "" or self.here() not in CAPITALS:
+        if not self.at_capital():
             self.fail()
         self.step_on()
         while (self.here() != "" and self.here() in NAME_SIGNS

@@ -55,28 +55,28 @@ def read_factor(scanner, brackets):
     scanner.skip()
     if scanner.at_figure():
         return ("number", int(scanner.figures(MOST_FIGURES)))
+    if scanner.known is not None and scanner.at_capital():
+        return read_known(scanner)
     if brackets >= MOST_BRACKETS:
         scanner.fail()
     if scanner.took("("):
         tree = read_sum(scanner, brackets + 1)
         scanner.take(")")
         return tree
-    word = read_word(scanner)
+    word = scanner.one_of(WORDS)
     scanner.take("[")
     tree = read_inside(scanner, word, brackets + 1)
     scanner.take("]")
     return tree
 
 
-def read_word(scanner):
-    """Read one of the words, character by character."""
-    begun = ""
-    while begun not in WORDS:
-        begun = begun + scanner.here()
-        if scanner.here() == "" or not any([word.startswith(begun) for word in WORDS]):
-            scanner.fail()
-        scanner.step_on()
-    return begun
+def read_known(scanner):
+    """Read one of the names that may stand as a factor."""
+    begin = scanner.place
+    name = scanner.read_name()
+    if name not in scanner.known:
+        raise BadText(begin + 1)
+    return ("name", name)
 
 
 def read_inside(scanner, word, brackets):
