@@ -26,7 +26,7 @@ class Answers:
         self._machines = {}
         self._witnesses = {}
 
-    def machine(self, text):
+    def machine_for(self, text):
         """The least machine of the count with this text."""
         if text not in self._machines:
             self._machines[text] = machine_of(Count(text), self.m)
@@ -40,7 +40,7 @@ class Answers:
         key = replaced(promise, texts)
         if key not in self._witnesses:
             if kind == "always":
-                machines = {name: self.machine(texts[name]) for name in named}
+                machines = {name: self.machine_for(texts[name]) for name in named}
                 self._witnesses[key] = look_always(told, machines)
             else:
                 witness = self.witness_of(kind, [texts[name] for name in named], told)
@@ -64,7 +64,7 @@ class Answers:
 
     def least_with(self, text, rest):
         """The least n at which the count of a text has this rest; None if there is none."""
-        found = {value: n for value, n in comes(self.machine(text))}
+        found = {value: n for value, n in comes(self.machine_for(text))}
         return found.get(rest)
 
     def answer(self, question, texts):
@@ -79,7 +79,7 @@ class Answers:
         elif kind == "first":
             told = self.least_with(text, numbers[0])
         elif kind == "many":
-            told = how_many(self.machine(text), numbers[0], numbers[1])
+            told = how_many(self.machine_for(text), numbers[0], numbers[1])
         else:
             told = fewest(Count(text), self.m)
         return "never" if told is None else str(told)

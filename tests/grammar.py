@@ -99,6 +99,33 @@ STATEMENTS = {
 }
 
 
+LINES = {
+    **COUNTS,
+    "LINE": (("S", "NAME", "S", "=", "EXPR"),),
+    "FACTOR": COUNTS["FACTOR"] + (("NAME",),),
+    "NAME": STATEMENTS["NAME"], **up_to("T", "<a-z0-9>", 19),
+}
+
+
+def promises(m, k):
+    """The grammar of promises modulo m, which is a prime to the power k, and of questions."""
+    always = tuple(("S", *"always", gap(WORD, begin), "STATEMENT" + begin + end, "S")
+                   for begin in (WORD, SIGN) for end in (WORD, SIGN))
+    named = ("S", "NAME", "G")
+    return {
+        **STATEMENTS,
+        "PROMISE": always + (
+            (*named, *"alike", "G", "NAME", "S"), (*named, *"never", "G", "R", "S"), (*named, *"follows", "S"),
+            (*named, *"divided", "G", *"by", "G", "J", "S")),
+        "QUESTION": (
+            (*named, *"at", "G", "N", "S"), (*named, *"apart", "G", "NAME", "S"), (*named, *"first", "G", "R", "S"),
+            (*named, *"many", "G", "R", "G", *"below", "G", "N", "S"), (*named, *"rows", "S")),
+        "R": tuple(tuple(str(rest)) for rest in range(m)),
+        "J": tuple(tuple(str(j)) for j in range(k + 1)),
+        **NUMBERS,
+    }
+
+
 class Reader:
     """All readings of a text that is read character by character."""
 
