@@ -5,7 +5,7 @@ from restcounts.errors import BadText
 FIGURES = "0123456789"
 LETTERS = "abcdefghijklmnopqrstuvwxyz"
 CAPITALS = "ABCDEFGHIJKLMNOPQRSTUVWXYZ"
-NAME_SIGNS = LETTERS + FIGURES
+NAME_SIGNS = "abcdefghijklmnopqrstuvwxyz0123456789"
 MOST_NAME_SIGNS = 20
 
 
