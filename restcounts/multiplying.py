@@ -26,7 +26,8 @@ def product_terms(one, other):
     for (i, j, h), number in one:
         for (i2, j2, h2), factor in other:
             power = (i + i2, j + j2, h + h2)
-            numbers[power] = numbers.get(power, 0) + number * factor
+            before = numbers[power] if power in numbers else 0
+            numbers[power] = before + number * factor
     return [(power, numbers[power]) for power in numbers]
 
 

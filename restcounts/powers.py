@@ -21,7 +21,7 @@ class Powers:
         numbers = {}
         for exponents, number in terms:
             power = tuple(exponents)
-            numbers[power] = numbers.get(power, 0) + number
+            numbers[power] = (numbers[power] if power in numbers else 0) + number
         kept = sorted([power for power in numbers if numbers[power] != 0])
         self.terms = tuple([(power, numbers[power]) for power in kept])
         self.reach = tuple([max([abs(told[at]) for told in kept], default=0)
